@@ -15,7 +15,7 @@ import (
 // oddTexts: empty ones, ones at and above every bound, and ones that are no UTF-8.
 func oddTexts() []string {
 	texts := []string{"", "\x00", "\xff\xfe", "a\x00b", "\u00e9\u2026"}
-	for _, n := range []int{63, 64, 65, api.MaxText - 33, api.MaxText - 32, api.MaxText - 1, api.MaxText, api.MaxText + 1, 100000} {
+	for _, n := range []int{7, 8, 9, 15, 16, 17, 63, 64, 65, api.MaxText - 33, api.MaxText - 32, api.MaxText - 1, api.MaxText, api.MaxText + 1, 100000} {
 		texts = append(texts, mixed(n, n))
 	}
 	return texts
@@ -46,7 +46,7 @@ func checkAnswer(t *testing.T, call string, got string, e api.Errno, size int, e
 	}
 }
 
-func TestNoCallPanics(t *testing.T) {
+func TestNoHashPanics(t *testing.T) {
 	texts := oddTexts()
 	for i, x := range texts {
 		got, e := prim.Sum(x)
@@ -69,6 +69,20 @@ func TestNoCallPanics(t *testing.T) {
 	}
 }
 
+func TestNoCipherPanics(t *testing.T) {
+	texts := oddTexts()
+	for _, x := range texts {
+		for _, y := range texts {
+			got, e := prim.Block(x, y)
+			checkAnswer(t, "Block", got, e, 16, api.ErrSize)
+			for _, z := range texts {
+				got, e := prim.Stream(x, y, z)
+				checkAnswer(t, "Stream", got, e, len(z), api.ErrSize, api.ErrLong)
+			}
+		}
+	}
+}
+
 // allAnswers tells what the calls answer to one choice of arguments.
 func allAnswers(i int) string {
 	x, y := mixed(50*i, i), mixed(90*i, i+1)
@@ -76,7 +90,9 @@ func allAnswers(i int) string {
 	m, e2 := prim.Mac(x, y)
 	d, e3 := prim.Derive(x, y, "info", 10*i)
 	r, e4 := prim.Root([]string{x, y, x})
-	return fmt.Sprintf("%x %d %x %d %x %d %x %d", s, e1, m, e2, d, e3, r, e4)
+	b, e5 := prim.Block(mixed(16, i), mixed(16-i/50, i+1))
+	c, e6 := prim.Stream(mixed(16, i), mixed(8, i+1), y)
+	return fmt.Sprintf("%x %d %x %d %x %d %x %d %x %d %x %d", s, e1, m, e2, d, e3, r, e4, b, e5, c, e6)
 }
 
 // What a call answers does not hang on the calls ahead of it, nor on those

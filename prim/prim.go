@@ -51,7 +51,21 @@ func Root(parts []string) (string, api.Errno) {
 }
 
 // Block is AES-128 (P6).
-func Block(key string, x string) (string, api.Errno) { return "", api.OK }
+func Block(key string, x string) (string, api.Errno) {
+	if len(key) != blockSize || len(x) != blockSize {
+		return "", api.ErrSize
+	}
+	out := newCipher(key).encrypt(block([]byte(x)))
+	return string(out[:]), api.OK
+}
 
 // Stream is AES-128 in counter mode (P7).
-func Stream(key string, nonce string, x string) (string, api.Errno) { return "", api.OK }
+func Stream(key string, nonce string, x string) (string, api.Errno) {
+	if len(key) != blockSize || len(nonce) != nonceSize {
+		return "", api.ErrSize
+	}
+	if len(x) > api.MaxText {
+		return "", api.ErrLong
+	}
+	return stream(key, nonce, x), api.OK
+}
