@@ -76,6 +76,9 @@ func oddCalls(t *testing.T, s *coffer.Store) {
 			t.Errorf("P1: Keys: %q, %d", keys, e)
 		}
 		s.Sync()
+		s.Rotate()
+		s.Put("r", "")
+		s.Snapshot()
 		s.Image()
 		s.Count()
 		s.Close()
@@ -188,9 +191,9 @@ func history(seed int) string {
 	tell := func(answers ...any) { fmt.Fprintf(&out, "%q\n", fmt.Sprint(answers...)) }
 	tell(e, s.Open())
 	var kept []api.File
-	for range 120 {
+	for range 160 {
 		key, value := fmt.Sprint("k", r.below(9)), fmt.Sprint("v", r.below(99))
-		switch r.below(14) {
+		switch r.below(18) {
 		case 0:
 			tell(s.Close())
 		case 1, 2:
@@ -212,6 +215,10 @@ func history(seed int) string {
 			tell(s.Get(key))
 		case 10:
 			tell(s.Keys())
+		case 11:
+			tell(s.Rotate(), s.Count())
+		case 12, 13:
+			tell(s.Snapshot(), s.Image())
 		default:
 			tell(s.Put(key, value))
 		}

@@ -1,6 +1,8 @@
 package coffer
 
 import (
+	"maps"
+	"slices"
 	"strings"
 
 	"coffer/api"
@@ -30,7 +32,12 @@ type removal struct {
 }
 
 func (p put) plainText() string {
-	return "P" + u8(len(p.key)) + u8(len(p.value)) + p.key + p.value
+	return "P" + p.pairText()
+}
+
+// pairText tells the key and the value as a snapshot has them.
+func (p put) pairText() string {
+	return u8(len(p.key)) + u8(len(p.value)) + p.key + p.value
 }
 
 func (r removal) plainText() string {
@@ -56,6 +63,15 @@ func (s state) apply(changes []change) {
 			delete(s, c.key)
 		}
 	}
+}
+
+// plainText tells the state as a snapshot has it (P13).
+func (s state) plainText() string {
+	var all strings.Builder
+	for _, key := range slices.Sorted(maps.Keys(s)) {
+		all.WriteString(put{key: key, value: s[key].value}.pairText())
+	}
+	return all.String()
 }
 
 func isKey(key string) bool { return key != "" && len(key) <= api.MaxKey }

@@ -92,3 +92,11 @@ func wantSizes(t *testing.T, what string, s *coffer.Store, want ...int) {
 		t.Errorf("%s: the files and their lengths are %v, want %v", what, got, want)
 	}
 }
+
+// rolls: numbers in an uneven order that hangs on the first state alone.
+type rolls struct{ state uint64 }
+
+func (r *rolls) below(n int) int {
+	r.state = r.state*6364136223846793005 + 1442695040888963407
+	return int(r.state>>33) % n
+}

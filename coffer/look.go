@@ -18,6 +18,7 @@ type look struct {
 	ahead    string // the tag of the record ahead of that one
 	base     int
 	last     int // the last segment; the base, if there is none
+	named    int // the file that the manifest names; 0, if there is no manifest
 	snapshot int // the snapshot's file; 0, if there is none
 	torn     bool
 	whole    int // so much of a last segment that is torn is whole records
@@ -34,7 +35,7 @@ func (s *Store) open() api.Errno {
 	l := lookThrough(s.disk, s.trusted)
 	s.trusted.count, s.trusted.mark = l.count, l.tag
 	l.mend(s.disk)
-	s.session = &session{state: l.state, epoch: l.epoch, base: l.base, last: l.last}
+	s.session = &session{state: l.state, epoch: l.epoch, base: l.base, last: l.last, named: l.named}
 	return api.OK
 }
 
@@ -57,7 +58,7 @@ func lookThrough(d *disk.Disk, t trusted) look {
 func (l *look) begin(m manifest, d *disk.Disk) {
 	l.enter(m.epoch)
 	l.state = m.snapshot(d, l.keys)
-	l.count, l.tag, l.base = m.count, m.last, m.base
+	l.count, l.tag, l.base, l.named = m.count, m.last, m.base, m.file
 	if m.length > 0 {
 		l.snapshot = m.file
 	}

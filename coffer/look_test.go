@@ -650,3 +650,19 @@ func TestOpenRefusesLogsBehindManifests(t *testing.T) {
 	wantTampered(t, "a manifest gone, its log there", c, 6, slices.Concat(behind, []api.File{snapshot}))
 	wantTampered(t, "segments from 1 on", c, 6, []api.File{manifest, c.segment(1, 4, 5), c.segment(2, 6, 6), snapshot})
 }
+
+// The tags go on from the manifest to the mark, but counts are left out between.
+func TestOpenRefusesALogThatLeavesCountsOut(t *testing.T) {
+	c := longChain()
+	plain := snapshotText(stateAt(5))
+	for _, count := range []int{3, 4, 5} {
+		manifest, snapshot := sheet{epoch: 2, count: count, base: 7, file: 10001, last: c.tag(5)}.shot(plain)
+		late := api.File{Number: 8, Bytes: first(8, count+1) + c.records[5]}
+		files := []api.File{manifest, late, snapshot}
+		if count == 5 {
+			wantOpens(t, "no count left out", c, 6, files, 6, stateAt(6), files)
+		} else {
+			wantTampered(t, "counts left out", c, 6, files)
+		}
+	}
+}

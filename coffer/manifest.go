@@ -19,6 +19,7 @@ const (
 const (
 	rootSize     = 32
 	manifestSize = 116
+	maxSnapshot  = api.MaxParts * api.PartSize
 )
 
 // manifest: what file 0 says (P13).
@@ -56,23 +57,35 @@ func (t trusted) manifestOf(bytes string) manifest {
 	return m
 }
 
+// sealed is file 0 as the manifest says it. The keys are those of its epoch.
+func (m manifest) sealed(k keys) string {
+	text := "M" + u8(m.epoch) + u16(m.opens) + u32(m.count) + u16(m.shots) +
+		u32(m.base) + u16(m.file) + u32(m.length) + m.root + m.last
+	return text + k.mac(text)
+}
+
 // snapshot tells the state that the manifest's snapshot has. The keys are those
 // of the manifest's epoch.
 func (m manifest) snapshot(d *disk.Disk, k keys) state {
 	bytes := ""
 	if m.length > 0 {
-		require(m.length <= api.MaxParts*api.PartSize)
+		require(m.length <= maxSnapshot)
 		require(m.file == snapshotA || m.file == snapshotB)
 		bytes = d.Bytes(m.file)
 	}
 	require(len(bytes) == m.length)
 	parts := cutUp(bytes)
 	require(m.root == made(prim.Root(parts)))
-	var plain strings.Builder
+	return stateOf(strings.Join(m.stream(parts, k), ""))
+}
+
+// stream encrypts the parts of the snapshot, and decrypts them again.
+func (m manifest) stream(parts []string, k keys) []string {
+	turned := make([]string, 0, len(parts))
 	for i, part := range parts {
-		plain.WriteString(k.stream(m.nonce(i), part))
+		turned = append(turned, k.stream(m.nonce(i), part))
 	}
-	return stateOf(plain.String())
+	return turned
 }
 
 // nonce is that of a part of the snapshot.

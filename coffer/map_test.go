@@ -56,6 +56,8 @@ func TestClosed(t *testing.T) {
 			t.Errorf("%s: Keys: %q, %d", when, keys, e)
 		}
 		want(t, when+": Sync", s.Sync(), api.ErrClosed)
+		want(t, when+": Rotate", s.Rotate(), api.ErrClosed)
+		want(t, when+": Snapshot", s.Snapshot(), api.ErrClosed)
 		want(t, when+": Close", s.Close(), api.ErrClosed)
 	}
 	s := newStore(t, much, 100, 9)

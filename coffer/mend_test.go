@@ -185,6 +185,24 @@ func TestWritingBehindAGreatBase(t *testing.T) {
 	}
 }
 
+// A snapshot behind such a base has that base, and what comes behind it ends as
+// ever, even where a segment has the number of a snapshot's file.
+func TestSnapshotBehindAGreatBase(t *testing.T) {
+	c := longChain()
+	for _, base := range []int{9998, 9999, 10000, 10001, 10002, math.MaxUint32} {
+		s := raised(t, c, 6)
+		s.Load([]api.File{sheetAt(c, 6, 2, base, 0).manifest()})
+		want(t, "P14: Open", s.Open(), api.OK)
+		shot(t, s)
+		m := sheet{epoch: 2, opens: 7, count: 6, base: base, file: 10001, root: rootOf(nil), last: c.tag(6)}
+		wantDisk(t, fmt.Sprintf("P13: behind the base %d", base), s, 6, []api.File{m.manifest()})
+		synced(t, s, "a", "1")
+		shot(t, s)
+		want(t, "Rotate", s.Rotate(), api.OK)
+		wantPairs(t, "P13: Snapshot", s, pairs{"a": "1"})
+	}
+}
+
 // Each Open counts, however it ends, but for one of an open store.
 func TestOpens(t *testing.T) {
 	s := newStore(t, much, 100, 9)

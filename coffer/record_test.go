@@ -198,6 +198,26 @@ func TestPendingStaysInItsOrder(t *testing.T) {
 	want(t, "P9: Put", s.Put("c", "3"), api.ErrFull)
 }
 
+func TestExamplesOfRotateAndSnapshot(t *testing.T) {
+	s := openStore(t, 100000, 100, 5)
+	synced(t, s, "a", "1")
+	reopened(t, s)
+	synced(t, s, "b", "2")
+	wantSizes(t, "example 6", s, 1, 103)
+	synced(t, s, "long key", "long value")
+	wantSizes(t, "example 6", s, 1, 103, 2, 9+42+3+18)
+	want(t, "example 6: Snapshot", s.Snapshot(), api.OK)
+	wantSizes(t, "example 6", s, 0, 116, 10001, 2+2+18+3*2)
+	s = openStore(t, 100000, 100, 99)
+	want(t, "example 10: Rotate", s.Rotate(), api.OK)
+	wantSizes(t, "example 10", s, 1, 9+42)
+	if s.Count() != 1 {
+		t.Errorf("example 10: the count is %d", s.Count())
+	}
+	rotated(t, s, 4)
+	want(t, "example 10: the sixth Rotate", s.Rotate(), api.ErrExhausted)
+}
+
 // The examples 5 to 9 of the document, but for what they say of Snapshot.
 func TestExamples(t *testing.T) {
 	s := openStore(t, 100000, 100, 5)

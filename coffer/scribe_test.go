@@ -114,6 +114,19 @@ func (c *chain) segment(number, from, to int) api.File {
 	return api.File{Number: number, Bytes: first(number, from) + strings.Join(c.records[from-1:to], "")}
 }
 
+// log lays the records from one on into segments behind a base, each of which is
+// full at so many bytes.
+func (c *chain) log(base, from, full int) []api.File {
+	var files []api.File
+	for i := from; i <= len(c.records); i++ {
+		if n := len(files); n == 0 || len(files[n-1].Bytes) >= full {
+			files = append(files, api.File{Number: base + n + 1, Bytes: first(base+n+1, i)})
+		}
+		files[len(files)-1].Bytes += c.records[i-1]
+	}
+	return files
+}
+
 // sheet: what a manifest is made of.
 type sheet struct {
 	epoch  int

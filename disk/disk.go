@@ -58,6 +58,13 @@ func (d *Disk) Flush(number int) {
 	d.lay(number, flushed(d.files[number].bytes))
 }
 
+// Replace is a step: a file, which is made if it is not there, has these bytes
+// and no others.
+func (d *Disk) Replace(number int, bytes string) {
+	d.step()
+	d.lay(number, flushed(bytes))
+}
+
 // Cut is a step: a file keeps its first bytes alone. The length is not above
 // that of the file.
 func (d *Disk) Cut(number int, length int) {

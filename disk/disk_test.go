@@ -92,7 +92,7 @@ func TestCrashLosesWhatWasNotFlushed(t *testing.T) {
 }
 
 func TestCrashComesAfterSoManySteps(t *testing.T) {
-	for after := range 6 {
+	for after := range 7 {
 		d := disk.New(100)
 		d.Append(1, "one")
 		d.Append(2, "two")
@@ -103,6 +103,7 @@ func TestCrashComesAfterSoManySteps(t *testing.T) {
 			func() { d.Append(1, "s") },
 			func() { d.Flush(1) },
 			func() { d.Cut(2, 1) },
+			func() { d.Replace(2, "other") },
 			func() { d.Remove(3) },
 			func() { d.Append(4, "four") },
 		}
@@ -129,6 +130,26 @@ func TestCrashThatHasComeIsOver(t *testing.T) {
 		if crashes(t, func() { d.Append(1, "one") }) {
 			t.Errorf("P15: a crash comes twice")
 		}
+	}
+}
+
+// A file that is replaced has the new bytes alone, at once and for good.
+func TestReplace(t *testing.T) {
+	d := disk.New(100)
+	d.Append(1, "not flushed")
+	d.Replace(1, "one")
+	d.Replace(2, "two")
+	wantImage(t, "replaced", d, api.File{Number: 1, Bytes: "one"}, api.File{Number: 2, Bytes: "two"})
+	d.Append(2, " more")
+	d.Crash(0, 0)
+	if !crashes(t, func() { d.Replace(1, "another") }) {
+		t.Fatalf("P15: no crash")
+	}
+	wantImage(t, "P15: replaced files last", d, api.File{Number: 1, Bytes: "one"}, api.File{Number: 2, Bytes: "two"})
+	d.Replace(1, "")
+	wantImage(t, "a file without bytes is not there", d, api.File{Number: 2, Bytes: "two"})
+	if free := d.Free(); free != 97 {
+		t.Errorf("room for %d bytes, want 97", free)
 	}
 }
 
